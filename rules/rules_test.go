@@ -1,0 +1,281 @@
+// Package rules tests the text of the program: the rules that hold for the code of every package.
+package rules
+
+import (
+	"bytes"
+	"go/ast"
+	"go/build"
+	"go/format"
+	"go/importer"
+	"go/parser"
+	"go/token"
+	"go/types"
+	"os"
+	"os/exec"
+	"path/filepath"
+	"slices"
+	"strings"
+	"testing"
+)
+
+const module = "gangsaw/"
+
+// layers has the packages from the lowest layer to the highest one. A package imports lower ones only.
+var layers = strings.Fields(`api
+	span codec vector fraction polygon box plane prism lexer parser printer shift survey boring model sound bench support crane precedence
+	extraction quarry kerf guillotine flatpack boxpack shelf orient saw slab offcut lineage sample grade colour bookmatch stock assign profile arch
+	wall stair tolerance anchor cutlist nest setting replace machine jobshop drying critical truck loading journal trace query certificate yard console`)
+
+var library = strings.Fields("bytes cmp container/heap errors iter maps math math/bits slices sort strconv strings sync sync/atomic unicode unicode/utf8")
+
+// source is a file of a package, without the tests.
+type source struct {
+	pack, path string
+	text       []byte
+	file       *ast.File
+	set        *token.FileSet
+}
+
+func sources(t *testing.T, packs ...string) []source {
+	t.Helper()
+	var list []source
+	for _, pack := range packs {
+		paths, err := filepath.Glob(filepath.Join("..", pack, "*.go"))
+		if err != nil || len(paths) == 0 {
+			t.Fatalf("package %s has no files: %v", pack, err)
+		}
+		for _, path := range paths {
+			if strings.HasSuffix(path, "_test.go") {
+				continue
+			}
+			text, err := os.ReadFile(path)
+			if err != nil {
+				t.Fatal(err)
+			}
+			set := token.NewFileSet()
+			file, err := parser.ParseFile(set, path, text, parser.ParseComments)
+			if err != nil {
+				t.Fatal(err)
+			}
+			list = append(list, source{pack, path, text, file, set})
+		}
+	}
+	return list
+}
+
+func TestPackageNames(t *testing.T) {
+	for _, s := range sources(t, layers...) {
+		if s.file.Name.Name != s.pack {
+			t.Errorf("%s: package %s", s.path, s.file.Name.Name)
+		}
+	}
+}
+
+func TestFolders(t *testing.T) {
+	for _, pack := range layers {
+		entries, err := os.ReadDir(filepath.Join("..", pack))
+		if err != nil {
+			t.Fatal(err)
+		}
+		for _, entry := range entries {
+			if entry.IsDir() || !strings.HasSuffix(entry.Name(), ".go") {
+				t.Errorf("%s has %s, which is no Go file", pack, entry.Name())
+			}
+		}
+	}
+}
+
+func TestImports(t *testing.T) {
+	for _, s := range sources(t, layers...) {
+		lower := layers[:slices.Index(layers, s.pack)]
+		for _, i := range s.file.Imports {
+			path := strings.Trim(i.Path.Value, `"`)
+			own, isOwn := strings.CutPrefix(path, module)
+			if isOwn && !slices.Contains(lower, own) {
+				t.Errorf("%s imports %s, which is not below it", s.path, path)
+			}
+			if !isOwn && !slices.Contains(library, path) {
+				t.Errorf("%s imports %s", s.path, path)
+			}
+		}
+	}
+}
+
+func TestLayout(t *testing.T) {
+	for _, s := range sources(t, layers...) {
+		if formatted, err := format.Source(s.text); err != nil || !bytes.Equal(formatted, s.text) {
+			t.Errorf("%s is not in gofmt's layout", s.path)
+		}
+		for _, d := range s.file.Decls {
+			from, to := s.set.Position(d.Pos()).Line, s.set.Position(d.End()).Line
+			if f, ok := d.(*ast.FuncDecl); ok && to-from >= 60 {
+				t.Errorf("%s: %s has %d lines", s.path, f.Name.Name, to-from+1)
+			}
+		}
+	}
+}
+
+func TestNoDirectives(t *testing.T) {
+	for _, s := range sources(t, layers...) {
+		for _, group := range s.file.Comments {
+			for _, c := range group.List {
+				if strings.HasPrefix(c.Text, "//go:") || strings.HasPrefix(c.Text, "// +build") {
+					t.Errorf("%s has the directive %s", s.path, c.Text)
+				}
+			}
+		}
+	}
+}
+
+func TestNoFloatsAndNoPrinting(t *testing.T) {
+	names := strings.Fields("float32 float64 complex64 complex128 print println unsafe")
+	for _, s := range sources(t, layers...) {
+		ast.Inspect(s.file, func(n ast.Node) bool {
+			if name, ok := n.(*ast.Ident); ok && slices.Contains(names, name.Name) {
+				t.Errorf("%s uses %s", s.path, name.Name)
+			}
+			if l, ok := n.(*ast.BasicLit); ok && (l.Kind == token.FLOAT || l.Kind == token.IMAG) {
+				t.Errorf("%s has the number %s", s.path, l.Value)
+			}
+			return true
+		})
+	}
+}
+
+// TestPackageLevel looks for variables that are not written out at their declaration.
+func TestPackageLevel(t *testing.T) {
+	for _, s := range sources(t, layers...) {
+		for _, d := range s.file.Decls {
+			g, ok := d.(*ast.GenDecl)
+			if !ok || g.Tok != token.VAR {
+				continue
+			}
+			for _, spec := range g.Specs {
+				v := spec.(*ast.ValueSpec)
+				if len(v.Values) == 0 {
+					t.Errorf("%s: %s has no value", s.path, v.Names[0].Name)
+				}
+				for _, value := range v.Values {
+					if what := notLiteral(value); what != "" {
+						t.Errorf("%s: %s is made by %s", s.path, v.Names[0].Name, what)
+					}
+				}
+			}
+		}
+	}
+}
+
+func notLiteral(value ast.Expr) string {
+	what := ""
+	ast.Inspect(value, func(n ast.Node) bool {
+		switch x := n.(type) {
+		case *ast.CallExpr:
+			if types.ExprString(x.Fun) != "errors.New" {
+				what = "a call of " + types.ExprString(x.Fun)
+			}
+		case *ast.FuncLit, *ast.MapType, *ast.FuncType, *ast.ChanType:
+			what = "a function, a map or a channel"
+		}
+		return what == ""
+	})
+	return what
+}
+
+// ways counts the language features of a package that the document asks for.
+type ways struct {
+	variadic, closure, structCompared, reader bool
+}
+
+func waysOf(t *testing.T, pack string) ways {
+	t.Helper()
+	set := token.NewFileSet()
+	var files []*ast.File
+	for _, s := range sources(t, pack) {
+		file, err := parser.ParseFile(set, s.path, s.text, 0)
+		if err != nil {
+			t.Fatal(err)
+		}
+		files = append(files, file)
+	}
+	info := &types.Info{Types: map[ast.Expr]types.TypeAndValue{}}
+	config := types.Config{Importer: fromSource{importer.ForCompiler(set, "source", nil), set}}
+	if _, err := config.Check(module+pack, set, files, info); err != nil {
+		t.Fatal(err)
+	}
+	var w ways
+	for _, file := range files {
+		ast.Inspect(file, func(n ast.Node) bool {
+			w.look(n, info)
+			return true
+		})
+	}
+	return w
+}
+
+func (w *ways) look(n ast.Node, info *types.Info) {
+	switch x := n.(type) {
+	case *ast.Ellipsis:
+		w.variadic = w.variadic || x.Elt != nil
+	case *ast.FuncLit:
+		w.closure = true
+	case *ast.BinaryExpr:
+		if x.Op == token.EQL || x.Op == token.NEQ {
+			_, ok := info.Types[x.X].Type.Underlying().(*types.Struct)
+			w.structCompared = w.structCompared || ok
+		}
+	case *ast.StructType:
+		text, offset := false, false
+		for _, f := range x.Fields.List {
+			text = text || types.ExprString(f.Type) == "string"
+			offset = offset || types.ExprString(f.Type) == "int"
+		}
+		w.reader = w.reader || text && offset && len(x.Fields.List) == 2
+	}
+}
+
+// fromSource imports packages of the project from their files, since they are not installed.
+type fromSource struct {
+	library types.Importer
+	set     *token.FileSet
+}
+
+func (f fromSource) Import(path string) (*types.Package, error) {
+	own, isOwn := strings.CutPrefix(path, module)
+	if !isOwn {
+		return f.library.Import(path)
+	}
+	paths, err := filepath.Glob(filepath.Join("..", own, "*.go"))
+	if err != nil {
+		return nil, err
+	}
+	var files []*ast.File
+	for _, p := range paths {
+		if strings.HasSuffix(p, "_test.go") {
+			continue
+		}
+		file, err := parser.ParseFile(f.set, p, nil, 0)
+		if err != nil {
+			return nil, err
+		}
+		files = append(files, file)
+	}
+	config := types.Config{Importer: f}
+	return config.Check(path, f.set, files, nil)
+}
+
+func TestWays(t *testing.T) {
+	// A trimmed go command does not record where its library lies.
+	if build.Default.GOROOT == "" {
+		out, err := exec.Command("go", "env", "GOROOT").Output()
+		if err != nil {
+			t.Fatal(err)
+		}
+		build.Default.GOROOT = strings.TrimSpace(string(out))
+	}
+	if w := waysOf(t, "span"); !w.variadic || !w.structCompared {
+		t.Errorf("span: %+v", w)
+	}
+	if w := waysOf(t, "codec"); !w.variadic || !w.closure || !w.reader {
+		t.Errorf("codec: %+v", w)
+	}
+}
