@@ -181,10 +181,8 @@ func notLiteral(value ast.Expr) string {
 	return what
 }
 
-// ways counts the language features of a package that the document asks for.
-type ways struct {
-	variadic, closure, structCompared, reader bool
-}
+// ways are the language features of a package that the document asks for.
+type ways map[string]bool
 
 func waysOf(t *testing.T, pack string) ways {
 	t.Helper()
@@ -197,12 +195,12 @@ func waysOf(t *testing.T, pack string) ways {
 		}
 		files = append(files, file)
 	}
-	info := &types.Info{Types: map[ast.Expr]types.TypeAndValue{}}
+	info := &types.Info{Types: map[ast.Expr]types.TypeAndValue{}, Defs: map[*ast.Ident]types.Object{}, Uses: map[*ast.Ident]types.Object{}}
 	config := types.Config{Importer: fromSource{importer.ForCompiler(set, "source", nil), set}}
 	if _, err := config.Check(module+pack, set, files, info); err != nil {
 		t.Fatal(err)
 	}
-	var w ways
+	w := ways{}
 	for _, file := range files {
 		ast.Inspect(file, func(n ast.Node) bool {
 			w.look(n, info)
@@ -212,25 +210,80 @@ func waysOf(t *testing.T, pack string) ways {
 	return w
 }
 
-func (w *ways) look(n ast.Node, info *types.Info) {
+func (w ways) look(n ast.Node, info *types.Info) {
 	switch x := n.(type) {
 	case *ast.Ellipsis:
-		w.variadic = w.variadic || x.Elt != nil
+		w["variadic"] = w["variadic"] || x.Elt != nil
 	case *ast.FuncLit:
-		w.closure = true
+		w["closure"] = true
+	case *ast.AssignStmt:
+		w["recursive-closure"] = w["recursive-closure"] || callsItself(x, info)
+	case *ast.ArrayType:
+		w["array"] = w["array"] || x.Len != nil
+	case *ast.RangeStmt:
+		w.lookAtRange(info.TypeOf(x.X).Underlying())
 	case *ast.BinaryExpr:
-		if x.Op == token.EQL || x.Op == token.NEQ {
-			_, ok := info.Types[x.X].Type.Underlying().(*types.Struct)
-			w.structCompared = w.structCompared || ok
-		}
+		w["struct-compared"] = w["struct-compared"] || comparesStructs(x, info)
+	case *ast.FuncDecl:
+		w["struct-compared-first"] = w["struct-compared-first"] || x.Name.Name == "Compare" && beginsWithStructs(x, info)
+	case *ast.SelectorExpr:
+		w["128-bits"] = w["128-bits"] || types.ExprString(x) == "bits.Mul64"
 	case *ast.StructType:
-		text, offset := false, false
-		for _, f := range x.Fields.List {
-			text = text || types.ExprString(f.Type) == "string"
-			offset = offset || types.ExprString(f.Type) == "int"
-		}
-		w.reader = w.reader || text && offset && len(x.Fields.List) == 2
+		w["reader"] = w["reader"] || isReader(x)
 	}
+}
+
+func (w ways) lookAtRange(over types.Type) {
+	switch x := over.(type) {
+	case *types.Array:
+		w["range-array"] = true
+	case *types.Basic:
+		w["range-integer"] = w["range-integer"] || x.Info()&types.IsInteger != 0
+	}
+}
+
+func comparesStructs(e ast.Expr, info *types.Info) bool {
+	x, ok := e.(*ast.BinaryExpr)
+	if !ok || x.Op != token.EQL && x.Op != token.NEQ {
+		return false
+	}
+	_, ok = info.TypeOf(x.X).Underlying().(*types.Struct)
+	return ok
+}
+
+// beginsWithStructs reports whether the first statement of a function compares two structs.
+func beginsWithStructs(f *ast.FuncDecl, info *types.Info) bool {
+	if f.Body == nil || len(f.Body.List) == 0 {
+		return false
+	}
+	first, ok := f.Body.List[0].(*ast.IfStmt)
+	return ok && comparesStructs(first.Cond, info)
+}
+
+// callsItself reports whether a function literal is assigned to a variable that it uses.
+func callsItself(x *ast.AssignStmt, info *types.Info) bool {
+	variable, isName := x.Lhs[0].(*ast.Ident)
+	function, isFunction := x.Rhs[0].(*ast.FuncLit)
+	if !isName || !isFunction {
+		return false
+	}
+	used := false
+	ast.Inspect(function, func(n ast.Node) bool {
+		name, ok := n.(*ast.Ident)
+		used = used || ok && info.ObjectOf(name) == info.ObjectOf(variable)
+		return true
+	})
+	return used
+}
+
+// isReader tells of a struct of a string and an offset.
+func isReader(x *ast.StructType) bool {
+	text, offset := false, false
+	for _, f := range x.Fields.List {
+		text = text || types.ExprString(f.Type) == "string"
+		offset = offset || types.ExprString(f.Type) == "int"
+	}
+	return text && offset && len(x.Fields.List) == 2
 }
 
 // fromSource imports packages of the project from their files, since they are not installed.
@@ -272,10 +325,17 @@ func TestWays(t *testing.T) {
 		}
 		build.Default.GOROOT = strings.TrimSpace(string(out))
 	}
-	if w := waysOf(t, "span"); !w.variadic || !w.structCompared {
-		t.Errorf("span: %+v", w)
-	}
-	if w := waysOf(t, "codec"); !w.variadic || !w.closure || !w.reader {
-		t.Errorf("codec: %+v", w)
+	for pack, words := range map[string]string{
+		"span":     "variadic struct-compared",
+		"codec":    "variadic closure reader",
+		"vector":   "array range-array struct-compared struct-compared-first",
+		"fraction": "range-integer recursive-closure 128-bits",
+	} {
+		w := waysOf(t, pack)
+		for _, word := range strings.Fields(words) {
+			if !w[word] {
+				t.Errorf("%s lacks the way %s", pack, word)
+			}
+		}
 	}
 }
