@@ -101,6 +101,23 @@ func TestImports(t *testing.T) {
 	}
 }
 
+// TestImportsOfChapters has the packages whose chapters name all that they import.
+func TestImportsOfChapters(t *testing.T) {
+	for pack, allowed := range map[string]string{
+		"box": "api",
+	} {
+		for _, s := range sources(t, pack) {
+			for _, i := range s.file.Imports {
+				path := strings.Trim(i.Path.Value, `"`)
+				own, isOwn := strings.CutPrefix(path, module)
+				if !isOwn || !slices.Contains(strings.Fields(allowed), own) {
+					t.Errorf("%s imports %s", s.path, path)
+				}
+			}
+		}
+	}
+}
+
 func TestLayout(t *testing.T) {
 	for _, s := range sources(t, layers...) {
 		if formatted, err := format.Source(s.text); err != nil || !bytes.Equal(formatted, s.text) {
@@ -196,7 +213,7 @@ func waysOf(t *testing.T, pack string) ways {
 		files = append(files, file)
 	}
 	info := &types.Info{Types: map[ast.Expr]types.TypeAndValue{}, Defs: map[*ast.Ident]types.Object{}, Uses: map[*ast.Ident]types.Object{}}
-	config := types.Config{Importer: fromSource{importer.ForCompiler(set, "source", nil), set}}
+	config := types.Config{Importer: fromSource{importer.ForCompiler(set, "source", nil), set, map[string]*types.Package{}}}
 	if _, err := config.Check(module+pack, set, files, info); err != nil {
 		t.Fatal(err)
 	}
@@ -216,10 +233,12 @@ func (w ways) look(n ast.Node, info *types.Info) {
 		w["variadic"] = w["variadic"] || x.Elt != nil
 	case *ast.FuncLit:
 		w["closure"] = true
+		w["choosing-closure"] = w["choosing-closure"] || appendsSome(x)
 	case *ast.AssignStmt:
 		w["recursive-closure"] = w["recursive-closure"] || callsItself(x, info)
 	case *ast.ArrayType:
 		w["array"] = w["array"] || x.Len != nil
+		w["array-of-slices"] = w["array-of-slices"] || x.Len != nil && isSlice(x.Elt)
 	case *ast.RangeStmt:
 		w.lookAtRange(info.TypeOf(x.X).Underlying())
 	case *ast.BinaryExpr:
@@ -276,6 +295,27 @@ func callsItself(x *ast.AssignStmt, info *types.Info) bool {
 	return used
 }
 
+// appendsSome reports whether a function literal appends something on a condition.
+func appendsSome(x *ast.FuncLit) bool {
+	found := false
+	ast.Inspect(x, func(n ast.Node) bool {
+		if condition, ok := n.(*ast.IfStmt); ok {
+			ast.Inspect(condition.Body, func(n ast.Node) bool {
+				call, ok := n.(*ast.CallExpr)
+				found = found || ok && types.ExprString(call.Fun) == "append"
+				return true
+			})
+		}
+		return true
+	})
+	return found
+}
+
+func isSlice(x ast.Expr) bool {
+	a, ok := x.(*ast.ArrayType)
+	return ok && a.Len == nil
+}
+
 // isReader tells of a struct of a string and an offset.
 func isReader(x *ast.StructType) bool {
 	text, offset := false, false
@@ -290,12 +330,16 @@ func isReader(x *ast.StructType) bool {
 type fromSource struct {
 	library types.Importer
 	set     *token.FileSet
+	known   map[string]*types.Package
 }
 
 func (f fromSource) Import(path string) (*types.Package, error) {
 	own, isOwn := strings.CutPrefix(path, module)
 	if !isOwn {
 		return f.library.Import(path)
+	}
+	if known := f.known[path]; known != nil {
+		return known, nil
 	}
 	paths, err := filepath.Glob(filepath.Join("..", own, "*.go"))
 	if err != nil {
@@ -313,7 +357,9 @@ func (f fromSource) Import(path string) (*types.Package, error) {
 		files = append(files, file)
 	}
 	config := types.Config{Importer: f}
-	return config.Check(path, f.set, files, nil)
+	pack, err := config.Check(path, f.set, files, nil)
+	f.known[path] = pack
+	return pack, err
 }
 
 func TestWays(t *testing.T) {
@@ -330,6 +376,8 @@ func TestWays(t *testing.T) {
 		"codec":    "variadic closure reader",
 		"vector":   "array range-array struct-compared struct-compared-first",
 		"fraction": "range-integer recursive-closure 128-bits",
+		"polygon":  "closure variadic",
+		"box":      "array array-of-slices closure choosing-closure",
 	} {
 		w := waysOf(t, pack)
 		for _, word := range strings.Fields(words) {
