@@ -104,7 +104,8 @@ func TestImports(t *testing.T) {
 // TestImportsOfChapters has the packages whose chapters name all that they import.
 func TestImportsOfChapters(t *testing.T) {
 	for pack, allowed := range map[string]string{
-		"box": "api",
+		"box":   "api",
+		"plane": "api box vector",
 	} {
 		for _, s := range sources(t, pack) {
 			for _, i := range s.file.Imports {
@@ -234,6 +235,7 @@ func (w ways) look(n ast.Node, info *types.Info) {
 	case *ast.FuncLit:
 		w["closure"] = true
 		w["choosing-closure"] = w["choosing-closure"] || appendsSome(x)
+		w["iterator"] = w["iterator"] || yields(x, info)
 	case *ast.AssignStmt:
 		w["recursive-closure"] = w["recursive-closure"] || callsItself(x, info)
 	case *ast.ArrayType:
@@ -256,6 +258,8 @@ func (w ways) lookAtRange(over types.Type) {
 	switch x := over.(type) {
 	case *types.Array:
 		w["range-array"] = true
+	case *types.Signature:
+		w["range-function"] = true
 	case *types.Basic:
 		w["range-integer"] = w["range-integer"] || x.Info()&types.IsInteger != 0
 	}
@@ -309,6 +313,16 @@ func appendsSome(x *ast.FuncLit) bool {
 		return true
 	})
 	return found
+}
+
+// yields reports whether a function literal takes a function that tells whether to go on, and returns nothing.
+func yields(x *ast.FuncLit, info *types.Info) bool {
+	of, ok := info.TypeOf(x).(*types.Signature)
+	if !ok || of.Params().Len() != 1 || of.Results().Len() != 0 {
+		return false
+	}
+	yield, ok := of.Params().At(0).Type().Underlying().(*types.Signature)
+	return ok && yield.Results().Len() == 1 && types.Identical(yield.Results().At(0).Type(), types.Typ[types.Bool])
 }
 
 func isSlice(x ast.Expr) bool {
@@ -378,6 +392,8 @@ func TestWays(t *testing.T) {
 		"fraction": "range-integer recursive-closure 128-bits",
 		"polygon":  "closure variadic",
 		"box":      "array array-of-slices closure choosing-closure",
+		"plane":    "array range-array struct-compared",
+		"prism":    "range-function closure iterator",
 	} {
 		w := waysOf(t, pack)
 		for _, word := range strings.Fields(words) {
