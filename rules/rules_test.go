@@ -104,8 +104,9 @@ func TestImports(t *testing.T) {
 // TestImportsOfChapters has the packages whose chapters name all that they import.
 func TestImportsOfChapters(t *testing.T) {
 	for pack, allowed := range map[string]string{
-		"box":   "api",
-		"plane": "api box vector",
+		"box":    "api",
+		"plane":  "api box vector",
+		"parser": "api lexer",
 	} {
 		for _, s := range sources(t, pack) {
 			for _, i := range s.file.Imports {
@@ -241,6 +242,12 @@ func (w ways) look(n ast.Node, info *types.Info) {
 	case *ast.ArrayType:
 		w["array"] = w["array"] || x.Len != nil
 		w["array-of-slices"] = w["array-of-slices"] || x.Len != nil && isSlice(x.Elt)
+		w["array-of-pointers"] = w["array-of-pointers"] || x.Len != nil && isPointer(x.Elt)
+	case *ast.LabeledStmt:
+		w["label"] = true
+	case *ast.MapType:
+		w["map"] = true
+		w["map-from-words-to-kinds"] = w["map-from-words-to-kinds"] || types.ExprString(x) == "map[string]int"
 	case *ast.RangeStmt:
 		w.lookAtRange(info.TypeOf(x.X).Underlying())
 	case *ast.BinaryExpr:
@@ -262,6 +269,7 @@ func (w ways) lookAtRange(over types.Type) {
 		w["range-function"] = true
 	case *types.Basic:
 		w["range-integer"] = w["range-integer"] || x.Info()&types.IsInteger != 0
+		w["range-string"] = w["range-string"] || x.Info()&types.IsString != 0
 	}
 }
 
@@ -330,6 +338,11 @@ func isSlice(x ast.Expr) bool {
 	return ok && a.Len == nil
 }
 
+func isPointer(x ast.Expr) bool {
+	_, ok := x.(*ast.StarExpr)
+	return ok
+}
+
 // isReader tells of a struct of a string and an offset.
 func isReader(x *ast.StructType) bool {
 	text, offset := false, false
@@ -394,6 +407,8 @@ func TestWays(t *testing.T) {
 		"box":      "array array-of-slices closure choosing-closure",
 		"plane":    "array range-array struct-compared",
 		"prism":    "range-function closure iterator",
+		"lexer":    "label array",
+		"parser":   "array array-of-pointers map map-from-words-to-kinds range-string",
 	} {
 		w := waysOf(t, pack)
 		for _, word := range strings.Fields(words) {
