@@ -104,9 +104,10 @@ func TestImports(t *testing.T) {
 // TestImportsOfChapters has the packages whose chapters name all that they import.
 func TestImportsOfChapters(t *testing.T) {
 	for pack, allowed := range map[string]string{
-		"box":    "api",
-		"plane":  "api box vector",
-		"parser": "api lexer",
+		"box":     "api",
+		"plane":   "api box vector",
+		"parser":  "api lexer",
+		"printer": "api lexer parser",
 	} {
 		for _, s := range sources(t, pack) {
 			for _, i := range s.file.Imports {
@@ -243,6 +244,7 @@ func (w ways) look(n ast.Node, info *types.Info) {
 		w["array"] = w["array"] || x.Len != nil
 		w["array-of-slices"] = w["array-of-slices"] || x.Len != nil && isSlice(x.Elt)
 		w["array-of-pointers"] = w["array-of-pointers"] || x.Len != nil && isPointer(x.Elt)
+		w["slice-of-slices"] = w["slice-of-slices"] || x.Len == nil && isSlice(x.Elt)
 	case *ast.LabeledStmt:
 		w["label"] = true
 	case *ast.MapType:
@@ -409,6 +411,8 @@ func TestWays(t *testing.T) {
 		"prism":    "range-function closure iterator",
 		"lexer":    "label array",
 		"parser":   "array array-of-pointers map map-from-words-to-kinds range-string",
+		"printer":  "closure recursive-closure slice-of-slices",
+		"shift":    "range-function closure iterator",
 	} {
 		w := waysOf(t, pack)
 		for _, word := range strings.Fields(words) {
