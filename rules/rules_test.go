@@ -101,19 +101,24 @@ func TestImports(t *testing.T) {
 	}
 }
 
-// TestImportsOfChapters has the packages whose chapters name all that they import.
+// TestImportsOfChapters has the packages whose chapters name all that they import. The word library stands for all of it.
 func TestImportsOfChapters(t *testing.T) {
 	for pack, allowed := range map[string]string{
 		"box":     "api",
 		"plane":   "api box vector",
 		"parser":  "api lexer",
 		"printer": "api lexer parser",
+		"survey":  "api box lexer polygon prism span library",
+		"boring":  "api box lexer parser survey library",
 	} {
 		for _, s := range sources(t, pack) {
 			for _, i := range s.file.Imports {
 				path := strings.Trim(i.Path.Value, `"`)
-				own, isOwn := strings.CutPrefix(path, module)
-				if !isOwn || !slices.Contains(strings.Fields(allowed), own) {
+				name, isOwn := strings.CutPrefix(path, module)
+				if !isOwn {
+					name = "library"
+				}
+				if !slices.Contains(strings.Fields(allowed), name) {
 					t.Errorf("%s imports %s", s.path, path)
 				}
 			}
@@ -254,7 +259,11 @@ func (w ways) look(n ast.Node, info *types.Info) {
 		w.lookAtRange(info.TypeOf(x.X).Underlying())
 	case *ast.BinaryExpr:
 		w["struct-compared"] = w["struct-compared"] || comparesStructs(x, info)
+	case *ast.CallExpr:
+		w["copy"] = w["copy"] || isCopy(x)
+		w["search-closure"] = w["search-closure"] || searchesByClosure(x)
 	case *ast.FuncDecl:
+		w["loop-over-copy"] = w["loop-over-copy"] || loopsOverCopy(x, info)
 		w["struct-compared-first"] = w["struct-compared-first"] || x.Name.Name == "Compare" && beginsWithStructs(x, info)
 	case *ast.SelectorExpr:
 		w["128-bits"] = w["128-bits"] || types.ExprString(x) == "bits.Mul64"
@@ -291,6 +300,38 @@ func beginsWithStructs(f *ast.FuncDecl, info *types.Info) bool {
 	}
 	first, ok := f.Body.List[0].(*ast.IfStmt)
 	return ok && comparesStructs(first.Cond, info)
+}
+
+func isCopy(e ast.Expr) bool {
+	call, ok := e.(*ast.CallExpr)
+	return ok && slices.Contains([]string{"copy", "slices.Clone"}, types.ExprString(call.Fun))
+}
+
+// searchesByClosure reports whether a call is a binary search over a function literal.
+func searchesByClosure(x *ast.CallExpr) bool {
+	if !slices.Contains([]string{"sort.Search", "slices.BinarySearchFunc"}, types.ExprString(x.Fun)) {
+		return false
+	}
+	_, ok := x.Args[len(x.Args)-1].(*ast.FuncLit)
+	return ok
+}
+
+// loopsOverCopy reports whether a function ranges over a variable to which it assigns a copied slice.
+func loopsOverCopy(f *ast.FuncDecl, info *types.Info) bool {
+	copies, found := map[types.Object]bool{}, false
+	ast.Inspect(f, func(n ast.Node) bool {
+		switch x := n.(type) {
+		case *ast.AssignStmt:
+			if name, ok := x.Lhs[0].(*ast.Ident); ok && isCopy(x.Rhs[0]) {
+				copies[info.ObjectOf(name)] = true
+			}
+		case *ast.RangeStmt:
+			name, ok := x.X.(*ast.Ident)
+			found = found || ok && copies[info.ObjectOf(name)]
+		}
+		return true
+	})
+	return found
 }
 
 // callsItself reports whether a function literal is assigned to a variable that it uses.
@@ -413,6 +454,8 @@ func TestWays(t *testing.T) {
 		"parser":   "array array-of-pointers map map-from-words-to-kinds range-string",
 		"printer":  "closure recursive-closure slice-of-slices",
 		"shift":    "range-function closure iterator",
+		"survey":   "closure array",
+		"boring":   "closure copy loop-over-copy search-closure",
 	} {
 		w := waysOf(t, pack)
 		for _, word := range strings.Fields(words) {
