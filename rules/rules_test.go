@@ -110,6 +110,7 @@ func TestImportsOfChapters(t *testing.T) {
 		"printer": "api lexer parser",
 		"survey":  "api box lexer polygon prism span library",
 		"boring":  "api box lexer parser survey library",
+		"model":   "api box library",
 	} {
 		for _, s := range sources(t, pack) {
 			for _, i := range s.file.Imports {
@@ -262,11 +263,14 @@ func (w ways) look(n ast.Node, info *types.Info) {
 	case *ast.CallExpr:
 		w["copy"] = w["copy"] || isCopy(x)
 		w["search-closure"] = w["search-closure"] || searchesByClosure(x)
+		w["sorts"] = w["sorts"] || slices.Contains([]string{"slices.Sort", "slices.SortFunc", "slices.Sorted"}, types.ExprString(x.Fun))
 	case *ast.FuncDecl:
 		w["loop-over-copy"] = w["loop-over-copy"] || loopsOverCopy(x, info)
 		w["struct-compared-first"] = w["struct-compared-first"] || x.Name.Name == "Compare" && beginsWithStructs(x, info)
 	case *ast.SelectorExpr:
 		w["128-bits"] = w["128-bits"] || types.ExprString(x) == "bits.Mul64"
+	case *ast.ReturnStmt:
+		w["returned-closure"] = w["returned-closure"] || slices.ContainsFunc(x.Results, isClosure)
 	case *ast.StructType:
 		w["reader"] = w["reader"] || isReader(x)
 	}
@@ -376,6 +380,11 @@ func yields(x *ast.FuncLit, info *types.Info) bool {
 	return ok && yield.Results().Len() == 1 && types.Identical(yield.Results().At(0).Type(), types.Typ[types.Bool])
 }
 
+func isClosure(x ast.Expr) bool {
+	_, ok := x.(*ast.FuncLit)
+	return ok
+}
+
 func isSlice(x ast.Expr) bool {
 	a, ok := x.(*ast.ArrayType)
 	return ok && a.Len == nil
@@ -456,6 +465,8 @@ func TestWays(t *testing.T) {
 		"shift":    "range-function closure iterator",
 		"survey":   "closure array",
 		"boring":   "closure copy loop-over-copy search-closure",
+		"model":    "closure map sorts returned-closure",
+		"sound":    "closure search-closure",
 	} {
 		w := waysOf(t, pack)
 		for _, word := range strings.Fields(words) {
